@@ -1,0 +1,1 @@
+"""The tests of tworows: one file for each group of promises of the document."""

@@ -1,0 +1,67 @@
+"""The interface: each name stands in its own file, with the arguments that the document lists."""
+
+import importlib
+import inspect
+import unittest
+
+FUNCTIONS = {
+    "tworows.values": {
+        "is_name": "(thing)",
+        "is_value": "(kind, thing)",
+        "is_ahead": "(one, other)",
+        "kind_of": "(value)",
+        "next_value": "(value)",
+        "up": "(text)",
+    },
+    "tworows.logic": {
+        "compare": "(column, op, value)",
+        "against": "(column, op, other, *, more=0)",
+        "among": "(column, values)",
+        "begins": "(column, prefix)",
+        "empty": "(column)",
+        "always": "()",
+        "never": "()",
+        "sure": "(test)",
+        "conjuncts": "(test)",
+    },
+}
+
+CLASSES = {
+    ("tworows.logic", "Test"): {
+        "kind": "(self)",
+        "parts": "(self)",
+        "atoms": "(self)",
+        "names": "(self)",
+        "levels": "(self)",
+        "renamed": "(self, mapping)",
+        "truth": "(self, row)",
+        "__and__": "(self, other)",
+        "__or__": "(self, other)",
+        "__invert__": "(self)",
+        "__eq__": "(self, other)",
+        "__str__": "(self)",
+    },
+}
+
+
+class InterfaceTest(unittest.TestCase):
+    def test_functions_stand_in_their_file(self):
+        for file, functions in FUNCTIONS.items():
+            module = importlib.import_module(file)
+            for name, arguments in functions.items():
+                function = getattr(module, name)
+                self.assertTrue(inspect.isfunction(function), name)
+                self.assertEqual(function.__module__, file, name)
+                self.assertEqual(str(inspect.signature(function)), arguments, name)
+
+    def test_methods_stand_in_the_class_itself(self):
+        for (file, name), methods in CLASSES.items():
+            found = getattr(importlib.import_module(file), name)
+            self.assertEqual(found.__module__, file)
+            for method, arguments in methods.items():
+                self.assertIn(method, vars(found))
+                self.assertEqual(str(inspect.signature(vars(found)[method])), arguments, method)
+
+
+if __name__ == "__main__":
+    unittest.main()

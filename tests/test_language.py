@@ -1,0 +1,108 @@
+"""The rules of the language that a look at the source can tell; the others are read by people."""
+
+import ast
+import builtins
+import pathlib
+import re
+import unittest
+
+PACKAGE = pathlib.Path(__file__).resolve().parent.parent / "tworows"
+NODES = {path: ast.parse(path.read_text(encoding="ascii")) for path in sorted(PACKAGE.rglob("*.py"))}
+BUILTINS = set(
+    "len range enumerate zip min max sum abs sorted reversed int str bool bytes list tuple dict set frozenset isinstance "
+    "ord repr any all divmod pow getattr hasattr setattr type map iter next super property staticmethod classmethod "
+    "Exception ValueError TypeError KeyError IndexError LookupError ZeroDivisionError ArithmeticError OverflowError "
+    "RuntimeError NotImplementedError AttributeError StopIteration NotImplemented".split()
+)
+BARRED = (
+    "typing", "enum", "Enum", "Flag", "Generic", "Protocol", "ABC", "ABCMeta", "namedtuple", "NamedTuple",
+    "TypedDict", "abstractmethod", "dataclass", "overload", "contextmanager", "register", "mro", "elements", "law",
+)
+LIBRARY = {"heapq", "math", "itertools", "collections", "__future__"}
+
+
+def nodes_of(kinds):
+    """Each node of some kinds in the package, with its file."""
+    return [(path, node) for path, tree in NODES.items() for node in ast.walk(tree) if isinstance(node, kinds)]
+
+
+class FilesTest(unittest.TestCase):
+    def test_the_folder_holds_plain_files_alone(self):
+        for path in PACKAGE.rglob("*"):
+            if "__pycache__" not in path.parts:
+                self.assertTrue(path.is_dir() or re.fullmatch(r"[a-z][a-z0-9_]*\.py|__init__\.py", path.name), path)
+
+    def test_sizes_and_signs(self):
+        for path in NODES:
+            text = path.read_bytes().decode("ascii")
+            self.assertLessEqual(len(text.splitlines()), 399, path)
+            self.assertTrue(set(text) <= {chr(code) for code in range(32, 127)} | {"\n"}, path)
+            for line in text.splitlines():
+                self.assertLessEqual(len(line), 120, path)
+
+    def test_functions_have_at_most_40_lines(self):
+        for path, node in nodes_of(ast.FunctionDef):
+            self.assertLessEqual(node.end_lineno - node.lineno + 1, 40, (path, node.name))
+
+
+class RulesTest(unittest.TestCase):
+    def test_module_level(self):
+        allowed = (ast.ImportFrom, ast.FunctionDef, ast.ClassDef, ast.Assign)
+        for path, tree in NODES.items():
+            for at, node in enumerate(tree.body):
+                docstring = at == 0 and isinstance(node, ast.Expr) and isinstance(node.value, ast.Constant)
+                self.assertTrue(docstring or isinstance(node, allowed), (path, node.lineno))
+
+    def test_imports_name_the_file_that_defines(self):
+        for path, node in nodes_of((ast.Import, ast.ImportFrom)):
+            self.assertIsInstance(node, ast.ImportFrom, path)
+            if node.module in LIBRARY:
+                continue
+            origin = PACKAGE.parent / (node.module.replace(".", "/") + ".py")
+            self.assertIn(origin, NODES, path)
+            defined = [thing.name for thing in NODES[origin].body if hasattr(thing, "name")]
+            defined += [target.id for thing in NODES[origin].body if isinstance(thing, ast.Assign) for target in thing.targets]
+            for alias in node.names:
+                self.assertIsNone(alias.asname, path)
+                self.assertIn(alias.name, defined, path)
+
+    def test_builtins(self):
+        for path, node in nodes_of(ast.Name):
+            if node.id in vars(builtins):
+                self.assertIn(node.id, BUILTINS, (path, node.lineno))
+                self.assertIsInstance(node.ctx, ast.Load, (path, node.lineno))
+
+    def test_no_name_of_a_builtin_is_given_another_meaning(self):
+        for path, tree in NODES.items():
+            given = [node.name for node in tree.body if isinstance(node, (ast.FunctionDef, ast.ClassDef))]
+            given += [node.arg for node in ast.walk(tree) if isinstance(node, ast.arg)]
+            for name in given:
+                self.assertNotIn(name, vars(builtins), path)
+
+    def test_barred_words(self):
+        for path, node in nodes_of((ast.Name, ast.Attribute, ast.arg)):
+            word = getattr(node, "id", None) or getattr(node, "attr", None) or getattr(node, "arg", None)
+            self.assertNotIn(word, BARRED, (path, node.lineno))
+
+    def test_strings_and_numbers(self):
+        for path, node in nodes_of(ast.Constant):
+            self.assertIsInstance(node.value, (int, str, bytes, type(None)), (path, node.lineno))
+            if isinstance(node.value, str):
+                self.assertNotIn("%", node.value, (path, node.lineno))
+
+    def test_what_is_not_in_the_language(self):
+        self.assertEqual(nodes_of((ast.AsyncFunctionDef, ast.Await, ast.Div)), [])
+        for path, tree in NODES.items():
+            for node in tree.body:
+                self.assertEqual(getattr(node, "decorator_list", []), [], (path, node.lineno))
+
+    def test_is_stands_beside_none_true_and_false(self):
+        for path, node in nodes_of(ast.Compare):
+            for op, right in zip(node.ops, node.comparators):
+                if isinstance(op, (ast.Is, ast.IsNot)):
+                    self.assertIsInstance(right, ast.Constant, (path, node.lineno))
+                    self.assertTrue(right.value is None or isinstance(right.value, bool), (path, node.lineno))
+
+
+if __name__ == "__main__":
+    unittest.main()

@@ -1,0 +1,1 @@
+"""Tworows: claims about one table, decided by one row, two rows or a certificate."""
