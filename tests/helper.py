@@ -1,5 +1,6 @@
 """What several test files need: odd things to hand in, and one way to look at an error."""
 
+from tworows.basics import basic_truth
 from tworows.errors import BadRow, RowsError
 from tworows.logic import compare
 
@@ -42,3 +43,27 @@ class Refusals:
             call(*given, **named)
         self.assertIs(type(caught.exception), kind)
         self.assertEqual(vars(caught.exception), told)
+
+
+def formula_truth(one, row):
+    """The truth of a formula of basic atoms at a row, worked out by the words of point [13]."""
+    if one[0] == "is":
+        return basic_truth(one[1], row)
+    truths = [formula_truth(part, row) for part in one[1:]]
+    if one[0] == "not":
+        return None if truths[0] is None else not truths[0]
+    if one[0] == "sure":
+        return truths[0] is True
+    if one[0] == "and":
+        return False if False in truths else None if None in truths else True
+    if one[0] == "or":
+        return True if True in truths else None if None in truths else False
+    return {"always": True, "never": False}[one[0]]
+
+
+def joined(tests):
+    """Tests joined by or, with as few levels as possible."""
+    if len(tests) == 1:
+        return tests[0]
+    half = len(tests) // 2
+    return joined(tests[:half]) | joined(tests[half:])

@@ -24,6 +24,22 @@ FUNCTIONS = {
         "sure": "(test)",
         "conjuncts": "(test)",
     },
+    "tworows.basics": {
+        "basics": "(test)",
+        "basic_truth": "(atom, row)",
+    },
+    "tworows.shapes": {
+        "fits": "(shape, test)",
+        "need_test": "(shape, thing)",
+        "check_row": "(shape, row)",
+        "fits_row": "(shape, thing)",
+        "check_table": "(shape, rows)",
+        "may_stand": "(shape, thing)",
+    },
+    "tworows.wants": {
+        "need_wants": "(shape, wants)",
+        "count_atoms": "(shape, wants)",
+    },
 }
 
 CLASSES = {
@@ -40,6 +56,19 @@ CLASSES = {
         "__invert__": "(self)",
         "__eq__": "(self, other)",
         "__str__": "(self)",
+    },
+    ("tworows.shapes", "Shape"): {
+        "__init__": "(self, columns, *, checks=(), keys=())",
+        "columns": "(self)",
+        "names": "(self)",
+        "checks": "(self)",
+        "unique_keys": "(self)",
+        "kind": "(self, name)",
+        "filled": "(self, name)",
+        "with_check": "(self, test)",
+        "with_key": "(self, key)",
+        "with_filled": "(self, name)",
+        "__eq__": "(self, other)",
     },
 }
 
