@@ -40,6 +40,30 @@ FUNCTIONS = {
         "need_wants": "(shape, wants)",
         "count_atoms": "(shape, wants)",
     },
+    "tworows.trees": {
+        "possible": "(shape, test, way)",
+        "leaf_holds": "(shape, wants, way, leaf)",
+        "shows_none": "(shape, wants, tree)",
+    },
+    "tworows.search": {
+        "find_row": "(shape, wants)",
+    },
+    "tworows.scopes": {
+        "within": "(shape, one, other)",
+        "never_comes": "(shape, test)",
+        "alike": "(shape, one, other)",
+        "same_truth": "(shape, one, other)",
+        "fixed": "(shape, test, column)",
+        "left_over": "(shape, test, given)",
+    },
+    "tworows.orders": {
+        "need_order": "(thing)",
+        "order_in": "(shape, thing)",
+        "turned": "(order)",
+        "alike_in": "(names, row, other)",
+        "comes_ahead": "(order, row, other)",
+        "sort_rows": "(order, rows)",
+    },
 }
 
 CLASSES = {
@@ -69,6 +93,23 @@ CLASSES = {
         "with_key": "(self, key)",
         "with_filled": "(self, name)",
         "__eq__": "(self, other)",
+    },
+    ("tworows.scopes", "Scope"): {
+        "__init__": "(self, shape, test)",
+        "base": "(self)",
+        "test": "(self)",
+        "rows": "(self, table)",
+        "is_empty": "(self)",
+        "__le__": "(self, other)",
+        "__ge__": "(self, other)",
+        "__lt__": "(self, other)",
+        "__gt__": "(self, other)",
+        "__eq__": "(self, other)",
+        "__and__": "(self, other)",
+        "__or__": "(self, other)",
+        "__sub__": "(self, other)",
+        "__invert__": "(self)",
+        "__contains__": "(self, row)",
     },
 }
 

@@ -1,7 +1,8 @@
 """Wants: tests with the truths that they are to have at one row."""
 
-from tworows.basics import basics
+from tworows.basics import basics, formula
 from tworows.errors import BadWant, TooMany
+from tworows.masks import NOT_FALSE, flattened, mask_of
 from tworows.shapes import fits, is_short
 
 MOST_WANTS = 60
@@ -43,3 +44,12 @@ def need_wants(shape, wants):
             raise BadWant(at)
     if count_atoms(shape, wants) > MOST_BASICS:
         raise TooMany(MOST_BASICS)
+
+
+def conditions(shape, wants, places):
+    """Each want and each check as the nodes of its formula and the mask of the truths that it may have.
+
+    The places are those of the basic atoms. The wants stand ahead of the checks.
+    """
+    asked = [(want[0], mask_of(want[1])) for want in wants] + [(test, NOT_FALSE) for test in shape.check_tests]
+    return [(flattened(formula(test), places, 0), need) for test, need in asked]
