@@ -18,12 +18,38 @@ BARRED = (
     "typing", "enum", "Enum", "Flag", "Generic", "Protocol", "ABC", "ABCMeta", "namedtuple", "NamedTuple",
     "TypedDict", "abstractmethod", "dataclass", "overload", "contextmanager", "register", "mro", "elements", "law",
 )
+CHANGING = ("append", "clear", "extend", "insert", "pop", "remove", "reverse", "setdefault", "update", "add", "discard", "sort")
 LIBRARY = {"heapq", "math", "itertools", "collections", "__future__"}
 
 
 def nodes_of(kinds):
     """Each node of some kinds in the package, with its file."""
     return [(path, node) for path, tree in NODES.items() for node in ast.walk(tree) if isinstance(node, kinds)]
+
+
+def changed_names(function):
+    """The names of what a function changes: items that it assigns, and lists and dicts that it calls a method of."""
+    for node in ast.walk(function):
+        if isinstance(node, ast.Subscript) and not isinstance(node.ctx, ast.Load):
+            yield node.value.id if isinstance(node.value, ast.Name) else ast.unparse(node.value)
+        if isinstance(node, ast.Call) and isinstance(node.func, ast.Attribute) and node.func.attr in CHANGING:
+            yield ast.unparse(node.func.value)
+
+
+def assigned_values(function, name):
+    """What a function assigns to a name."""
+    for node in ast.walk(function):
+        if isinstance(node, ast.Assign) and name in [ast.unparse(target) for target in node.targets]:
+            yield node.value
+
+
+def is_created(value):
+    """Whether an expression makes a new list or dict."""
+    if isinstance(value, ast.Call) and isinstance(value.func, ast.Name):
+        return value.func.id in ("list", "dict", "sorted")
+    if isinstance(value, ast.BinOp):
+        return is_created(value.left) or is_created(value.right)
+    return isinstance(value, (ast.List, ast.Dict, ast.ListComp, ast.DictComp))
 
 
 class FilesTest(unittest.TestCase):
@@ -95,6 +121,38 @@ class RulesTest(unittest.TestCase):
         for path, tree in NODES.items():
             for node in tree.body:
                 self.assertEqual(getattr(node, "decorator_list", []), [], (path, node.lineno))
+
+    def test_functions_change_only_what_they_created(self):
+        # Operators may change nothing else, nor may what they call, and they reach most of the package.
+        for path, function in nodes_of(ast.FunctionDef):
+            for name in changed_names(function):
+                given = [arg.arg for arg in ast.walk(function.args) if isinstance(arg, ast.arg)]
+                self.assertNotIn(name, given, (path, function.name))
+                values = list(assigned_values(function, name))
+                self.assertTrue(values and all(is_created(value) for value in values), (path, function.name, name))
+
+    def test_attributes_are_assigned_in_init_alone(self):
+        for path, function in nodes_of(ast.FunctionDef):
+            for node in ast.walk(function):
+                if isinstance(node, ast.Attribute) and isinstance(node.ctx, ast.Store):
+                    self.assertEqual((function.name, node.value.id), ("__init__", "self"), path)
+
+    def test_no_attribute_has_the_name_of_a_method(self):
+        methods = {node.name for _, owner in nodes_of(ast.ClassDef) for node in owner.body if isinstance(node, ast.FunctionDef)}
+        for path, node in nodes_of(ast.Attribute):
+            if isinstance(node.ctx, ast.Store):
+                self.assertNotIn(node.attr, methods, path)
+
+    def test_imports_lead_into_no_circle(self):
+        imports = {path.stem: [] for path in NODES}
+        for path, node in nodes_of(ast.ImportFrom):
+            if node.module not in LIBRARY:
+                imports[path.stem].append(node.module.split(".")[1])
+        while imports:
+            free = [name for name, others in imports.items() if not any(other in imports for other in others)]
+            self.assertTrue(free, imports)
+            for name in free:
+                del imports[name]
 
     def test_is_stands_beside_none_true_and_false(self):
         for path, node in nodes_of(ast.Compare):

@@ -53,7 +53,9 @@ class MasksTest(unittest.TestCase):
             apart = [("is", spots.index(at), -1) if at in spots else node for at, node in enumerate(nodes)]
             held = [chance.choice(MASKS) for _ in spots]
             masks, need = weighed(apart, held), chance.choice(range(8))
-            for place, mask in narrowed(apart, masks, need):
+            found = narrowed(apart, masks, need)
+            self.assertEqual(sorted(place for place, _ in found), list(range(len(spots))))
+            for place, mask in found:
                 for bit in BITS:
                     changed = held[:place] + [bit] + held[place + 1 :]
                     self.assertIs(bool(weighed(apart, changed)[-1] & need), bool(mask & bit))

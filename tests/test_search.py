@@ -1,6 +1,7 @@
 """Point [32]: a row that meets the wants, or a tree that shows that there is none."""
 
 import itertools
+import random
 import unittest
 
 from tests.cases import OPS, meets, random_questions, some_row
@@ -21,6 +22,13 @@ def depth_of(thing):
     if not isinstance(thing, tuple):
         return 0
     return 1 + max([depth_of(part) for part in thing], default=0)
+
+
+def atoms_of(tree):
+    """The basic atoms in a tree."""
+    if tree == () or tree[0] != "atom":
+        return set()
+    return {tree[1]}.union(*[atoms_of(branch) for branch in tree[2:]])
 
 
 def columns(many, kind="number", filled=False):
@@ -241,6 +249,18 @@ class ChainTest(Searches):
         self.none(*wants, (compare("c3", ">=", "b"), (True,)), (begins("c9", "a"), (True,)), shape=shape)
         self.row(*wants, (begins("c3", "a"), (True,)), (begins("c9", "a"), (True,)), shape=shape)
 
+    def test_of_several_bounds_between_two_columns_the_narrowest_counts(self):
+        shape = Shape(columns(3) + [("t0", "text", False), ("t1", "text", False), ("t2", "text", False)])
+        for kind, most in (("c", 5), ("t", 0)):
+            steps = [against(f"{kind}0", "<", f"{kind}1"), against(f"{kind}0", "<=", f"{kind}1", more=most)]
+            steps += [against(f"{kind}1", "<=", f"{kind}2"), against(f"{kind}2", "<=", f"{kind}0")]
+            for turned in itertools.permutations(steps):
+                self.none(*[(step, (True,)) for step in turned], shape=shape)
+                self.row(*[(step, (True,)) for step in turned if step != steps[0]], shape=shape)
+        values = [(compare("c0", ">=", value), (True,)) for value in (3, 9, 5)] + [(against("c0", "<=", "c1"), (True,))]
+        for turned in itertools.permutations(values + [(compare("c1", "<", 9), (True,))]):
+            self.none(*turned, shape=shape)
+
     def test_numbers_of_any_size(self):
         big = 10 ** 29
         wants = [(against("n", ">", "m", more=big), (True,)), (compare("m", ">", big), (True,))]
@@ -273,6 +293,24 @@ class HardTest(Searches):
         for wants in (choices + core, core + choices, choices[:4] + core + choices[4:]):
             tree = self.none(*wants, shape=Shape(columns(9)))
             self.assertLess(depth_of(tree), 8)
+
+    def test_choices_that_do_not_matter_do_not_stand_in_the_tree(self):
+        shape = Shape(columns(12, filled=True))
+        one, other = compare("c0", "<", 5), compare("c1", "<", 5)
+        core = [(first | second, (True,)) for first in (one, ~one) for second in (other, ~other)]
+        choices = []
+        for at in range(2, 6):
+            first = compare(f"c{at}", "<", 0)
+            for value in range(4):
+                second = compare(f"c{at + 6}", "<", value)
+                choices += [(first | second, (True,)), (~first | ~second, (True,))]
+        self.row(*choices, shape=shape)
+        tree = self.none(*choices, *core, shape=shape)
+        self.assertEqual(atoms_of(tree), {("below", "c0", 5), ("below", "c1", 5)})
+        both = [(first[0] & second[0] | never(), (True,)) for first, second in zip(core, choices)]
+        tree = self.none(*choices[4:], *both, shape=shape)
+        self.assertLessEqual({("below", "c0", 5), ("below", "c1", 5)}, atoms_of(tree))
+        self.assertLess(depth_of(tree), 12)
 
     def test_exactly_60_basic_atoms(self):
         shape = Shape(columns(12))
@@ -335,11 +373,22 @@ class RandomTest(Searches):
         words = [self.find(shape, wants)[0] for shape, wants in random_questions(33, 400, columns=5, most=9)]
         self.assertGreater(min(words.count("row"), words.count("none")), 50)
 
-    def test_questions_of_numbers_alone(self):
-        chance_cases = [case for case in random_questions(34, 150) if case[0].names() and "t" not in case[0].names()]
-        for shape, wants in chance_cases:
-            if len(shape.names()) < 3:
-                self.assertEqual(some_row(shape, wants) is None, self.find(shape, wants)[0] == "none")
+    def test_comparisons_of_columns_alone(self):
+        chance = random.Random(34)
+        words = []
+        for _ in range(300):
+            kind, many = chance.choice(("number", "text")), chance.randint(2, 5)
+            shape = Shape([(f"c{at}", kind, chance.random() < 0.2) for at in range(many)])
+            wants = []
+            for _ in range(chance.randint(1, 6)):
+                parts = []
+                for _ in range(chance.randint(1, 3)):
+                    one, other = chance.sample(shape.names(), 2)
+                    more = chance.randint(-2, 2) if kind == "number" else 0
+                    parts.append(against(one, chance.choice(OPS), other, more=more))
+                wants.append((joined(parts), chance.choice([(True,), (False,), (None,), (True, False), (False, None)])))
+            words.append(self.find(shape, wants)[0])
+        self.assertGreater(min(words.count("row"), words.count("none")), 50)
 
 
 class WrongTest(Searches):

@@ -13,7 +13,7 @@ KNOWN = 3
 NOT_FALSE = 5
 NOT_TRUE = 6
 ALL = 7
-BITS = (TRUE, FALSE, UNKNOWN)
+BITS = (1, 2, 4)
 # The mask of the opposite truths, for each mask.
 OPPOSITE = (0, 2, 1, 3, 4, 6, 5, 7)
 

@@ -99,7 +99,7 @@ def line_of(problem, placed, most):
 def ring_proof(problem, way):
     """That the last bound of a way contradicts the ones ahead of it."""
     placed = [(problem.bounds[atom][bit], (atom, bit)) for atom, bit in way if problem.bounds[atom][bit] is not None]
-    most = len(problem.labels) + 1
+    most = len(problem.labels)
     ring = ()
     if placed[-1][0][1] is not None:
         ring = cycle_at(placed, placed[-1][0][1], most)
@@ -133,13 +133,12 @@ def missed_proof(problem, way, at):
 
 
 def closed(problem, state, atom, bit):
-    """A proof by one leaf that a literal cannot follow a state."""
+    """A proof by one leaf that a literal cannot follow a state that leaves several truths to its atom."""
     way = state.way + ((atom, bit),)
     if state.held[atom] & bit == 0:
-        made = problem.makes[atom][bit]
-        for column in problem.spans[atom]:
-            if made != UNSEEN and state.known[column] not in (UNSEEN, made):
-                return pair_proof(problem, way, column)
+        # The state leaves several truths to the atom, so this is the unknown one, and no column is empty.
+        if problem.facts[atom][0] == "below":
+            return pair_proof(problem, way, problem.spans[atom][0])
         return open_proof(problem, way, atom)
     other = opened(problem, state, atom, bit)
     if other >= 0:

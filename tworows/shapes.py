@@ -2,7 +2,7 @@
 
 from tworows.errors import BadRow, BadShape, BadTable, BadTest
 from tworows.logic import Test
-from tworows.values import is_name, is_sequence, is_value, kind_of
+from tworows.values import is_name, is_sequence, is_value
 
 KINDS = ("number", "text")
 MOST_COLUMNS = 12

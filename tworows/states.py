@@ -113,8 +113,8 @@ def opened(problem, state, atom, bit):
 
 
 def is_refused(problem, state, atom, bit):
-    """Whether a literal contradicts the literals of a state."""
-    if state.held[atom] & bit == 0 or opened(problem, state, atom, bit) >= 0:
+    """Whether a literal that is possible by the rules for ways contradicts the literals of a state."""
+    if opened(problem, state, atom, bit) >= 0:
         return True
     bound = problem.bounds[atom][bit]
     return bound is not None and contradicts(state.limits, bound)
