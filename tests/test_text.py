@@ -1,8 +1,11 @@
-"""Point [35] as far as str(test) needs it: the text of a test."""
+"""Point [35]: the text of a test, by test_text and by str."""
 
+import random
 import unittest
 
+from tests.cases import random_test
 from tworows.logic import against, always, among, begins, compare, empty, never, sure
+from tworows.texts import test_text as text_of
 
 A = compare("a", "<", 1)
 B = compare("b", "<", 2)
@@ -13,6 +16,8 @@ class TextTest(unittest.TestCase):
     def told(self, pairs):
         for test, text in pairs:
             self.assertEqual(str(test), text)
+            self.assertEqual(text_of(test), text)
+            self.assertIs(type(text_of(test)), str)
 
     def test_compare(self):
         self.told([
@@ -135,6 +140,32 @@ class TextTest(unittest.TestCase):
         for _ in range(12):
             test = ~test
         self.assertEqual(str(test), "not " * 12 + "a < 1")
+        self.assertEqual(text_of(test), "not " * 12 + "a < 1")
+
+    def test_numbers_of_many_digits(self):
+        for digits in (1, 31, 1000):
+            for number in (10 ** (digits - 1), 10 ** digits - 1, -(10 ** digits - 1)):
+                self.told([(compare("a", "<", number), f"a < {number}"), (among("a", [number, 0]), f"a in ({number}, 0)")])
+                sign = "-" if number < 0 else "+"
+                self.told([(against("a", "<", "b", more=number), f"a < b {sign} {abs(number)}")])
+
+    def test_eight_values(self):
+        self.told([(among("a", range_list), "a in (1, 2, 3, 4, 5, 6, 7, 8)") for range_list in (list(range(1, 9)), tuple(range(1, 9)))])
+
+    def test_different_forms_have_different_texts(self):
+        chance = random.Random(35)
+        found = {}
+        for _ in range(4000):
+            test = random_test(chance, ["a", "b"], ["c"], chance.randint(0, 3))
+            self.assertEqual(found.setdefault(text_of(test), test), test)
+        small = [A, B, ~A, sure(A), A & B, A | B]
+        made = [one & other for one in small for other in small] + [one | other for one in small for other in small]
+        made += [~one for one in made] + [sure(one) for one in made]
+        made += [one & A for one in made] + [A & one for one in made] + [one | A for one in made] + [A | one for one in made]
+        texts = {}
+        for test in made:
+            self.assertEqual(texts.setdefault(text_of(test), test), test)
+        self.assertGreater(len(texts), 700)
 
 
 if __name__ == "__main__":

@@ -27,13 +27,13 @@ class Problem:
         further = [("empty", name) for name in self.labels]
         self.facts = asked + [atom for atom in further if atom not in asked]
         places = {atom: at for at, atom in enumerate(self.facts)}
-        self.asked = conditions(shape, wants, places)
+        self.demands = conditions(shape, wants, places)
         self.spans = [[self.labels.index(name) for name in columns_in(atom)] for atom in self.facts]
         self.bounds = [placed_bounds(self.labels, atom) for atom in self.facts]
         self.makes = [made_by_truths(atom) for atom in self.facts]
         self.empties = [places[atom] for atom in further]
         self.over = [atoms_over(self.spans, column) for column in range(len(self.labels))]
-        self.members = [members_of(nodes) for nodes, _ in self.asked]
+        self.members = [members_of(nodes) for nodes, _ in self.demands]
         self.users = [users_of(self.members, at) for at in range(len(self.facts))]
 
 

@@ -117,7 +117,7 @@ def is_missed(problem, literals, at):
                 known[column] = problem.makes[atom][bit]
     truths = {atom: bit for atom, bit in literals}
     held = {atom: truths[atom] if atom in truths else rule_mask(problem, known, atom) for atom in problem.members[at]}
-    nodes, need = problem.asked[at]
+    nodes, need = problem.demands[at]
     return weighed(nodes, held)[-1] & need == 0
 
 
@@ -144,7 +144,7 @@ def closed(problem, state, atom, bit):
     if other >= 0:
         return open_proof(problem, way, other)
     held = held_after(problem, state, atom, bit)
-    for at, (nodes, need) in enumerate(problem.asked):
+    for at, (nodes, need) in enumerate(problem.demands):
         if weighed(nodes, held)[-1] & need == 0:
             return missed_proof(problem, way, at)
     return ring_proof(problem, way)

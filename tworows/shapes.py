@@ -113,14 +113,18 @@ def need_keys(spots, keys):
             raise BadShape("keys", at)
 
 
+def are_names(thing, least, most):
+    """Whether a thing is a sequence of so many different names."""
+    if not is_short(thing, least, most) or not all([is_name(name) for name in thing]):
+        return False
+    return len(set(thing)) == len(thing)
+
+
 def is_key(spots, thing):
-    """Whether a thing is a key for columns."""
-    if not is_short(thing, 2, 2) or not is_short(thing[0], 1, MOST_KEY_NAMES):
+    """Whether a thing is a key for columns, given by their names."""
+    if not is_short(thing, 2, 2) or not are_names(thing[0], 1, MOST_KEY_NAMES):
         return False
-    # A thing that is no name may be one that no dict can look up.
-    if not all([is_name(name) and name in spots for name in thing[0]]):
-        return False
-    if len(set(thing[0])) < len(thing[0]):
+    if not all([name in spots for name in thing[0]]):
         return False
     return thing[1] is None or is_fitting(spots, thing[1])
 
@@ -190,13 +194,16 @@ def is_row(shape, thing):
 
 
 def row_fault(shape, row):
-    """The word filled or check if a row for the shape breaks such a rule, or None."""
+    """The first rule that a row for the shape breaks by itself, or None.
+
+    It is the word filled with the name of a column, or check with an index.
+    """
     for name, _, filled in shape.layout:
         if filled and row[name] is None:
-            return "filled"
-    for test in shape.check_tests:
+            return ("filled", name)
+    for at, test in enumerate(shape.check_tests):
         if test.truth(row) is False:
-            return "check"
+            return ("check", at)
     return None
 
 
@@ -225,9 +232,9 @@ def check_table(shape, rows):
             raise BadTable("rows", at)
     taken = {}
     for at, row in enumerate(rows):
-        why = row_fault(shape, row)
-        if why is not None:
-            raise BadTable(why, at)
+        fault = row_fault(shape, row)
+        if fault is not None:
+            raise BadTable(fault[0], at)
         for mark in key_marks(shape, row):
             if mark in taken:
                 raise BadTable("key", at)

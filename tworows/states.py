@@ -64,7 +64,7 @@ def first_state(problem):
 
 def first_view(problem, state):
     """What is looked at first: all conditions."""
-    return View([], state.held, (1 << len(problem.asked)) - 1, -1)
+    return View([], state.held, (1 << len(problem.demands)) - 1, -1)
 
 
 def known_after(problem, known, atom, bit):
@@ -136,7 +136,7 @@ def view_of(problem, state, view):
     left = [one & other for one, other in zip(view.left, state.held)]
     unmet = view.unmet
     for at in bits_in(stale_conditions(problem, state, view)):
-        nodes, need = problem.asked[at]
+        nodes, need = problem.demands[at]
         masks = weighed(nodes, state.held)
         if masks[-1] & need == 0:
             return View(state.held, left, unmet, at)

@@ -75,14 +75,14 @@ class Question:
     def __init__(self, shape, wants):
         self.shaped = shape
         self.facts = ordered_atoms(wanted_atoms(shape, wants))
-        self.asked = conditions(shape, wants, {atom: at for at, atom in enumerate(self.facts)})
+        self.demands = conditions(shape, wants, {atom: at for at, atom in enumerate(self.facts)})
 
 
 def missed_holds(question, way):
     """Whether a want or a check has no truth that it may have after a way."""
     known = Known(question.shaped, way)
     held = [possible_mask(known, atom) for atom in question.facts]
-    for nodes, need in question.asked:
+    for nodes, need in question.demands:
         if weighed(nodes, held)[-1] & need == 0:
             return True
     return False

@@ -19,6 +19,12 @@ def is_sequence(thing):
     return isinstance(thing, (list, tuple))
 
 
+def is_worded(thing):
+    """Whether a thing is a sequence with a string first, which can be looked up among words."""
+    # Comparing bytes with strings may warn, and a list cannot be looked up in a dict.
+    return is_sequence(thing) and len(thing) > 0 and isinstance(thing[0], str)
+
+
 def is_text(thing):
     """Whether a thing is a string of the 94 characters alone."""
     if not isinstance(thing, str):
