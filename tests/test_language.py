@@ -19,6 +19,8 @@ BARRED = (
     "TypedDict", "abstractmethod", "dataclass", "overload", "contextmanager", "register", "mro", "elements", "law",
 )
 CHANGING = ("append", "clear", "extend", "insert", "pop", "remove", "reverse", "setdefault", "update", "add", "discard", "sort")
+DEED_CLASSES = ("Store", "Desk")
+DEED_SIGNS = ("__setitem__", "__ior__")
 LIBRARY = {"heapq", "math", "itertools", "collections", "__future__"}
 
 
@@ -131,11 +133,59 @@ class RulesTest(unittest.TestCase):
                 values = list(assigned_values(function, name))
                 self.assertTrue(values and all(is_created(value) for value in values), (path, function.name, name))
 
-    def test_attributes_are_assigned_in_init_alone(self):
+    def test_attributes_are_assigned_in_init_or_by_deeds_alone(self):
+        for path, owner in nodes_of((ast.ClassDef, ast.Module)):
+            for function in owner.body:
+                if isinstance(function, ast.FunctionDef):
+                    for node in ast.walk(function):
+                        if isinstance(node, ast.Attribute) and isinstance(node.ctx, ast.Store):
+                            deed = owner.__dict__.get("name") in DEED_CLASSES and (function.name in DEED_SIGNS or function.name[:2] != "__")
+                            self.assertTrue(deed or (function.name, node.value.id) == ("__init__", "self"), (path, function.name))
+                            if function.name == "twin":
+                                self.assertEqual(node.value.id, "other")
+                            else:
+                                self.assertEqual(node.value.id, "self")
+
+    def test_questions_call_no_deed(self):
+        # An operator changes nothing, nor does what it calls; these are told from deeds by their names.
+        deeds = {"put", "drop", "change", "strike", "together", "twin", "add_rule", "drop_rule", "undo", "redo", "watch", "do_line"}
         for path, function in nodes_of(ast.FunctionDef):
             for node in ast.walk(function):
-                if isinstance(node, ast.Attribute) and isinstance(node.ctx, ast.Store):
-                    self.assertEqual((function.name, node.value.id), ("__init__", "self"), path)
+                if isinstance(node, ast.Call) and isinstance(node.func, ast.Attribute) and node.func.attr in deeds:
+                    self.assertEqual((path.name, function.name), ("desk.py", "do_line"))
+
+    def test_a_class_that_is_indexed_refuses_to_be_iterated_over(self):
+        for path, owner in nodes_of(ast.ClassDef):
+            names = [node.name for node in owner.body if isinstance(node, ast.FunctionDef)]
+            self.assertEqual("__getitem__" in names, "__iter__" in names, (path, owner.name))
+        for path in NODES:
+            text = path.read_text(encoding="ascii")
+            for word in ("(type)", "Meta", "metaclass="):
+                self.assertNotIn(word, text, path)
+
+    def test_sorted_min_and_max_take_numbers_or_strings(self):
+        # A class has an order, so they are given what plainly has no objects of it.
+        for path, node in nodes_of(ast.Call):
+            if isinstance(node.func, ast.Name) and node.func.id in ("sorted", "min", "max"):
+                first = node.args[0]
+                plain = isinstance(first, ast.Constant) or (isinstance(first, ast.Call) and first.func.id in ("set", "len", "int"))
+                numbers = isinstance(first, ast.ListComp) and isinstance(first.elt, ast.Call) and first.elt.func.id in ("int", "len", "str")
+                self.assertTrue(plain or numbers, (path, node.lineno))
+
+    def test_lists_and_dicts_at_module_level_are_read_alone(self):
+        for path, tree in NODES.items():
+            tables = [node.targets[0].id for node in tree.body if isinstance(node, ast.Assign) and isinstance(node.value, (ast.List, ast.Dict))]
+            for node in ast.walk(tree):
+                allowed = []
+                if isinstance(node, ast.Subscript):
+                    allowed = [node.value]
+                elif isinstance(node, ast.Compare):
+                    allowed = node.comparators
+                elif isinstance(node, ast.Assign) and node in tree.body:
+                    allowed = node.targets
+                for child in ast.iter_child_nodes(node):
+                    if isinstance(child, ast.Name) and child.id in tables:
+                        self.assertIn(child, allowed, (path, child.lineno))
 
     def test_no_attribute_has_the_name_of_a_method(self):
         methods = {node.name for _, owner in nodes_of(ast.ClassDef) for node in owner.body if isinstance(node, ast.FunctionDef)}
