@@ -332,6 +332,8 @@ class LineTest(Desks):
             (TooMany, {"limit": 60}, f"plan keep {huge}"),
         ]:
             self.unchanged(desk, kind, told, desk.do_line, line)
+        for line in ("drop check 0", "drop key 0", "drop check 9"):
+            self.unchanged(Desk(PLAIN), BadShape, {"why": "rules", "at": 0}, Desk(PLAIN).do_line, line)
         for claim in WatchTest.SIX:
             desk.do_line(f"watch {claim_text(claim)}")
         self.unchanged(desk, TooMany, {"limit": 6}, desk.do_line, "watch never where b is empty")

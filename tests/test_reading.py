@@ -109,8 +109,18 @@ class ReadTestTest(Reads):
 
     def test_the_largest_and_the_deepest(self):
         wide = joined([compare("a", "<", at) for at in range(24)])
-        for test in (wide, ~wide, deepened(T, 11), deepened(compare("a", "<", 1), 12)):
+        surely = compare("a", "<", 1)
+        for _ in range(12):
+            surely = sure(surely)
+        for test in (wide, ~wide, deepened(T, 11), deepened(compare("a", "<", 1), 12), surely):
             self.assertEqual(read_test(text_of(test)), test)
+            for claim in (("never", test), ("within", T, test), ("within", test, T), ("apart", test, ("a",)), ("tells", test, (), ("a",))):
+                self.assertEqual(read_claim(claim_text(claim)), claim)
+            for rule in (("check", test), ("key", (("a",), test))):
+                self.assertEqual(read_rule(rule_text(rule)), rule)
+            self.assertEqual(read_plan(plan_text(Plan([("flip",), ("keep", test)]))), Plan([("flip",), ("keep", test)]))
+            shape = Shape([("a", "number", False), ("b", "text", False)], checks=[test], keys=[(("a",), test)])
+            self.assertEqual(read_shape(shape_text(shape)), shape)
         chain = T
         for _ in range(11):
             chain = T & chain if chain.kind() == "or" else compare("b", "<", 1) | chain

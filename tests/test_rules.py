@@ -21,7 +21,7 @@ PLAIN = Shape(COLUMNS[:2] + [("c", "number", False)])
 
 class Wrong(unittest.TestCase, Refusals):
     WRONG_RULES = [
-        (), [], ("check",), ("check", T, T), ("filled",), ("filled", "a", "b"), ("key",), ("key", ["a"], None), ("Check", T), ("x", T), (T,), T,
+        (), [], ("check",), ("check", T, T), ("filled",), ("filled", "a", "b"), ("key",), ("key", ["a"], None), ("Check", T), ("x", T), ("x", "a"), ("Filled", "a"), ("", "b"), (T,), T,
         "check", "filled a", ("check", "a < 1"), ("check", empty("z")), ("check", compare("a", "<", "x")), ("check", begins("a", "")),
         ("filled", "z"), ("filled", "A"), ("filled", ["a"]), ("filled", 1), ("key", "a"), ("key", ["a"]), ("key", (["a"], None, None)),
         ("key", (["z"], None)), ("key", ([], None)), ("key", (["a", "a"], None)), ("key", (["a"], empty("z"))), ("key", (["a"], True)),

@@ -62,8 +62,6 @@ def put_all(shape, contents, rows):
     for at, row in enumerate(rows):
         if not is_row(shape, row):
             raise BadTable("rows", at)
-    if len(contents.held) + len(rows) > MOST_ROWS:
-        raise TooMany(MOST_ROWS)
     for row in rows:
         contents, _ = put_in(shape, contents, row)
     return contents

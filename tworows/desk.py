@@ -1,14 +1,15 @@
 """A desk: the rules of a small shape under change, with watched claims and deeds that are told by lines of text."""
 
 from tworows.errors import BadShape, BadText, TooMany
-from tworows.moves import STEP_WORDS, cheapest, moved
+from tworows.moves import cheapest, moved
 from tworows.pairs import claim_holds, need_claim_in, need_small
+from tworows.plans import STEP_SIZES
+from tworows.reading import DIGITS
 from tworows.rules import bare, is_own_rule, own_rules, with_rules
 from tworows.texts import claim_text, need_string, plan_text, read_claim, read_plan, read_rule
 from tworows.values import is_name
 
 MOST_CLAIMS = 6
-DIGITS = "0123456789"
 
 
 class Desk:
@@ -142,7 +143,7 @@ def rule_of_line(shape, text):
 
 def plan_lines(shape, plan):
     """The texts of plans, from a plan by one move each to the cheapest one if each step costs 1."""
-    _, _, steps = cheapest(shape, plan, {word: 1 for word in STEP_WORDS})
+    _, _, steps = cheapest(shape, plan, {word: 1 for word in STEP_SIZES})
     lines = [plan_text(plan)]
     for move in steps:
         plan = moved(plan, move)

@@ -3,10 +3,9 @@
 from tworows.errors import BadPlan, LimitExceeded
 from tworows.orders import order_in, turned
 from tworows.pairs import NOT_YES, YES, ahead, both_wants, copy_test, decided, need_small_test
-from tworows.plans import Plan, given_ahead, idle, leaves_one_row, may_exchange, need_plan_in, standing_order
+from tworows.plans import STEP_SIZES, Plan, idle, leaves_one_row, may_exchange, need_plan_in, standing_order
 from tworows.values import is_integer
 
-STEP_WORDS = ("keep", "sort", "distinct", "first", "flip")
 HIGHEST_PRICE = 1000000
 
 
@@ -61,13 +60,18 @@ def shows_moves(shape, plan, steps, end):
     return plan == end
 
 
+def is_price(thing):
+    """Whether a thing is what a step may cost."""
+    return is_integer(thing) and 0 <= thing and thing <= HIGHEST_PRICE
+
+
 def need_prices(thing):
-    """Refuse what is no price for each of the five words."""
-    if not isinstance(thing, dict) or len(thing) != len(STEP_WORDS):
+    """Refuse what is no dict with a price for each word of a step, and nothing else."""
+    # Only strings are looked up among words: comparing bytes with strings may warn.
+    if not isinstance(thing, dict) or not all([isinstance(word, str) and word in STEP_SIZES for word in thing]):
         raise BadPlan("prices", -1)
-    for word in STEP_WORDS:
-        if word not in thing or not is_integer(thing[word]) or thing[word] < 0 or thing[word] > HIGHEST_PRICE:
-            raise BadPlan("prices", -1)
+    if len(thing) != len(STEP_SIZES) or not all([is_price(thing[word]) for word in thing]):
+        raise BadPlan("prices", -1)
 
 
 def numbers_of(values):
@@ -101,11 +105,11 @@ def reached(shape, plan, limit):
     while len(courses) > 0:
         further = []
         for course in courses:
-            plan = Plan([steps[number] for number in course])
+            left = Plan([steps[number] for number in course])
             for move in possible_moves(len(course)):
-                key = situation(course, plan, move)
+                key = situation(course, left, move)
                 if key not in known:
-                    known[key] = is_allowed(shape, plan, move)
+                    known[key] = is_allowed(shape, left, move)
                 end = tuple(after_move(list(course), move))
                 if known[key] and end not in trails:
                     trails[end] = trails[course] + [move]

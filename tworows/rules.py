@@ -1,7 +1,7 @@
 """Rules of a shape: adding and leaving out some, and the least sets of them that make a claim hold."""
 
 from tworows.errors import BadClaim, BadShape, TooMany
-from tworows.pairs import MOST_SMALL_RULES, cases_of, claim_holds, need_claim_in, need_few_atoms, need_small
+from tworows.pairs import MOST_SMALL_RULES, claim_holds, need_claim_in, need_small
 from tworows.scopes import has_part, index_sets
 from tworows.shapes import Shape, fits, is_key, may_stand
 from tworows.values import is_integer, is_name, is_sequence, is_worded
@@ -88,7 +88,11 @@ def rules_kept(shape, rules, rows):
 
 
 def least_sets(shape, rules, claim):
-    """The least sets of indexes of rules with which the claim holds, shorter ones first."""
+    """The least sets of indexes of rules with which the claim holds, shorter ones first.
+
+    It is decided with all rules first. So a refusal of these, or of too many
+    basic atoms, is ahead of all else.
+    """
     word, told = claim_holds(with_rules(shape, rules), claim)
     if word == "rows":
         return []
@@ -113,8 +117,6 @@ def mends(shape, claim, candidates):
         raise BadShape("rules", -1)
     if len(candidates) > MOST_CANDIDATES:
         raise TooMany(MOST_CANDIDATES)
-    widest = with_rules(shape, candidates)
-    need_few_atoms(widest, cases_of(widest, claim))
     return least_sets(shape, candidates, claim)
 
 
@@ -130,7 +132,7 @@ def rule_named(shape, name):
 
 def needed_rules(shape, claim):
     """The least sets of the shape's own rules, by their names, with which alone the claim holds."""
-    need_few_atoms(shape, cases_of(shape, claim))
+    need_claim_in(shape, claim)
     own = own_rules(shape)
     found = least_sets(bare(shape, []), [rule_named(shape, name) for name in own], claim)
     return [chosen_rules(own, chosen) for chosen in found]
